@@ -1,0 +1,1 @@
+"""Walkers who never meet, counted and numbered."""
