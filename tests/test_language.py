@@ -118,6 +118,16 @@ class Syntax(unittest.TestCase):
             for alias in node.names:
                 self.assertIn(alias.name, defined, where)
 
+    def test_no_two_files_draw_from_one_another(self):
+        drawn = {name: {node.module.split(".")[1] + ".py" for node in tree.body if isinstance(node, ast.ImportFrom)}
+                 for name, tree in trees()}
+        while drawn:
+            # Each turn leaves out the files that draw from none that is left.
+            loose = [name for name in drawn if not drawn[name] & set(drawn)]
+            self.assertTrue(loose, drawn)
+            for name in loose:
+                del drawn[name]
+
     def test_the_top_of_each_file(self):
         for name, tree in trees():
             for part in tree.body[1:]:
@@ -141,6 +151,18 @@ class Names(unittest.TestCase):
             if name not in SPECIAL:
                 self.assertRegex(name, r"^[A-Za-z][A-Za-z0-9_]*$", where)
                 self.assertNotIn(name, dir(builtins), where)
+
+    def test_no_local_is_called_like_a_class_or_an_import_of_its_file(self):
+        for file_name, tree in trees():
+            taken = {part.name for part in tree.body if isinstance(part, ast.ClassDef)}
+            for part in tree.body:
+                if isinstance(part, ast.ImportFrom):
+                    taken.update(alias.name for alias in part.names)
+            for node in ast.walk(tree):
+                if isinstance(node, ast.arg):
+                    self.assertNotIn(node.arg, taken, f"{file_name}:{node.lineno}")
+                elif isinstance(node, ast.Name) and isinstance(node.ctx, ast.Store):
+                    self.assertNotIn(node.id, taken, f"{file_name}:{node.lineno}")
 
     def test_of_python_s_own_names_only_the_listed_are_read(self):
         for where, node in nodes(ast.Name):

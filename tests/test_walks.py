@@ -2,47 +2,12 @@ import copy
 import itertools
 import unittest
 
-from samples import all_sample_parts, flat_net, sample_parts
+from readings import gone, searched, texts
+from samples import all_sample_parts, flat_net, nets_with_every_choice_closed, sample_parts
 
 from lonewalks.errors import BadWalk, WalkError
 from lonewalks.nets import Net
 from lonewalks.walks import places, walks, weight
-
-
-def texts(longest):
-    for length in range(longest + 1):
-        for letters in itertools.product("ru", repeat=length):
-            yield "".join(letters)
-
-
-def gone(net, x, y, walk):
-    """The places and the weight of a walk, or None: a reading of point 4 that shares nothing with the program."""
-    if x not in range(net.columns) or y not in range(net.rows):
-        return None
-    steps = {}
-    for row, weights in enumerate(net.right):
-        for column, step in enumerate(weights):
-            steps[column, row, "r"] = step
-    for row, weights in enumerate(net.up):
-        for column, step in enumerate(weights):
-            steps[column, row, "u"] = step
-    found, product = [(x, y)], 1
-    for letter in walk:
-        product *= steps.get((x, y, letter), 0)
-        x, y = (x + 1, y) if letter == "r" else (x, y + 1)
-        found.append((x, y))
-    return (found, product) if product else None
-
-
-def searched(net, one, other):
-    goal = (net.columns - 1, net.ends[other])
-    found = []
-    for walk in texts(net.columns + net.rows - 2):
-        told = gone(net, 0, net.starts[one], walk)
-        if told and told[0][-1] == goal:
-            found.append(walk)
-    # Texts of r and u stand in the order of point 5 when they stand as Python sorts them.
-    return sorted(found)
 
 
 class PlacesAndWeights(unittest.TestCase):
@@ -172,9 +137,8 @@ class Walks(unittest.TestCase):
             self.compare(Net(right, up, border, border))
 
     def test_every_choice_of_closed_steps_on_two_by_three(self):
-        for shut in itertools.product((0, 6), repeat=7):
-            self.compare(Net([list(shut[:1]), list(shut[1:2]), list(shut[2:3])],
-                             [list(shut[3:5]), list(shut[5:7])], [0, 1, 2], [0, 1, 2]))
+        for net in nets_with_every_choice_closed():
+            self.compare(net)
 
     def test_nets_of_25_crossings_and_long_ones(self):
         for columns, rows in ((5, 5), (8, 3), (3, 8)):
