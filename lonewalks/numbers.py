@@ -45,9 +45,10 @@ class Search:
         return letter
 
 
-def walk_found(search, place, goal):
+def walk_found(search, start, length):
     walk = ""
-    while place != goal:
+    place = (0, start)
+    while len(walk) < length:
         letter = search.choose(place)
         walk = walk + letter
         place = place_behind(place[0], place[1], letter)
@@ -60,7 +61,8 @@ def company_at(net, number):
     search = Search(net, number)
     company = []
     for start, end in zip(net.starts, net.ends):
-        company.append(walk_found(search, (0, start), (net.columns - 1, end)))
+        # In a lone company each walker comes to the end of its own number, and all ways there are equally long.
+        company.append(walk_found(search, start, net.columns - 1 + end - start))
     return company
 
 
